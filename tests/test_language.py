@@ -47,8 +47,19 @@ CLASSES = {
         ).split(),
     },
     "programs.py": {"Program": "__init__ kind_of __len__ __str__ __eq__ of".split()},
+    "running.py": {"Machine": "__init__ __call__ miss fed outcome probe".split(), "Outcome": ["__init__"]},
+    "judging.py": {"Wish": [], "Verdict": "__init__ __bool__ __len__".split()},
+    "pieces.py": {"Merge": "__init__ __len__ __str__".split()},
 }
-FUNCTIONS = {"values.py": "is_number is_entry same least greatest holds agree".split()}
+FUNCTIONS = {
+    "values.py": "is_number is_entry same least greatest holds agree".split(),
+    "running.py": "run walk".split(),
+    "judging.py": "wishes is_wished same_situation judge is_judgement".split(),
+    "comparing.py": "compare is_comparison".split(),
+    "pieces.py": "merged pieces is_cutting".split(),
+}
+# The modules of the interface, in its order: each imports only those ahead of it, and helpers.
+MODULES = "errors values series programs running judging comparing pieces".split()
 
 
 def nodes(path):
@@ -95,9 +106,49 @@ class Language(unittest.TestCase):
                     folder, _, name = node.module.partition(".")
                     self.assertEqual(folder, "unnumbered", path)
                     source = PACKAGE / f"{name}.py"
-                    defined = [part.name for part in nodes(source) if hasattr(part, "name")]
+                    defined = [part.name for part in nodes(source) if isinstance(part, (ast.FunctionDef, ast.ClassDef))]
+                    tables = [part for part in ast.parse(source.read_text()).body if isinstance(part, ast.Assign)]
+                    defined += [part.targets[0].id for part in tables]
                     for alias in node.names:
                         self.assertIn(alias.name, defined, path)
+
+    def test_modules_of_the_interface_import_those_above(self):
+        for at, name in enumerate(MODULES):
+            seen = set()
+            fresh = [name]
+            while fresh:
+                source = PACKAGE / f"{fresh.pop()}.py"
+                for node in nodes(source):
+                    if isinstance(node, ast.ImportFrom) and node.module not in seen:
+                        seen.add(node.module)
+                        fresh.append(node.module.partition(".")[2])
+            self.assertEqual(seen & {f"unnumbered.{other}" for other in MODULES[at:]}, set(), name)
+
+    def test_no_variable_has_the_name_of_an_import_or_a_class(self):
+        for path in FILES:
+            tree = ast.parse(path.read_text(encoding="utf-8"))
+            fixed = {alias.name for node in tree.body if isinstance(node, ast.ImportFrom) for alias in node.names}
+            fixed |= {node.name for node in tree.body if isinstance(node, ast.ClassDef)}
+            for node in ast.walk(tree):
+                name = node.arg if isinstance(node, ast.arg) else getattr(node, "id", None)
+                if isinstance(node, ast.arg) or isinstance(node, ast.Name) and isinstance(node.ctx, ast.Store):
+                    self.assertNotIn(name, fixed, (path, node.lineno))
+
+    def test_no_name_is_a_method_and_an_attribute(self):
+        methods, attributes, generators, functions = set(), set(), [], []
+        for path in FILES:
+            for node in nodes(path):
+                if isinstance(node, ast.ClassDef):
+                    methods |= {part.name for part in node.body if isinstance(part, ast.FunctionDef)}
+                if isinstance(node, ast.Attribute) and isinstance(node.ctx, ast.Store):
+                    attributes.add(node.attr)
+                if isinstance(node, ast.FunctionDef):
+                    functions.append(node.name)
+                    if any(isinstance(part, (ast.Yield, ast.YieldFrom)) for part in ast.walk(node)):
+                        generators.append(node.name)
+        self.assertEqual(methods & attributes, set())
+        for name in generators:
+            self.assertEqual(functions.count(name), 1, name)
 
     def test_no_barred_statements(self):
         for path in FILES:

@@ -2,7 +2,7 @@
 
 from unnumbered.drafts import Draft
 from unnumbered.errors import BadProgram, NoAnswer, TooMany
-from unnumbered.tokens import WrongLine
+from unnumbered.tokens import WrongLine, tokens_of
 
 # The most that a program has of each part, in the order in which this is checked.
 LIMITS = {
@@ -22,7 +22,7 @@ class Program:
 
     starts is a tuple with None or 0 for each keep; read_statements and read_answers are tuples
     of the Statement and Answer objects that stand for the statements and the answers; lines is
-    a tuple of the lines as written.
+    a tuple of the lines as written; has_before is whether before stands in a statement.
     """
 
     def __init__(self, text):
@@ -39,6 +39,7 @@ class Program:
         self.read_statements = tuple(draft.statements)
         self.read_answers = tuple(draft.answers)
         self.lines = tuple(draft.lines)
+        self.has_before = any(["before" in tokens_of(line) for line in self.statements])
         self._check_limits()
 
     @classmethod

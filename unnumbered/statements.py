@@ -42,7 +42,21 @@ class Answer:
 
 def read_statement(tokens, kinds):
     """The Statement that a line of these tokens is; raises WrongLine if it is none."""
-    reader = Reader(tokens, kinds, True)
+    return _statement(Reader(tokens, kinds, True))
+
+
+def read_merge_line(tokens, kinds):
+    """The Statement that a line of a merge is; raises WrongLine if it is none.
+
+    The names in kinds that mean registers of the second piece are in capital letters.
+    """
+    statement = _statement(Reader(tokens, kinds, False))
+    if statement.action[0] not in ("keep", "place", "set") or not statement.action[1].islower():
+        raise WrongLine("no line of a merge")
+    return statement
+
+
+def _statement(reader):
     action = _action(reader)
     test = reader.read_test() if reader.skip_if("if") else None
     reader.expect_end()

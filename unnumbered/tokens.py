@@ -1,6 +1,7 @@
 """The tokens of a line, and how a line of tokens is written."""
 
 LETTERS = "abcdefghijklmnopqrstuvwxyz"
+CAPITALS = "ABCDEFGHIJKLMNOPQRSTUVWXYZ"
 
 # Where two of these begin alike, the longer one comes first.
 OTHER_TOKENS = ("+=", "-=", "<=", ">=", "==", "!=", "<", ">", "=", "(", ")", ",", "0", "1")
@@ -10,23 +11,23 @@ class WrongLine(ValueError):
     """A line, or what stands in its place, is not as it must be."""
 
 
-def tokens_of(line):
-    """The tokens of a line, a list; raises WrongLine where none begins."""
+def tokens_of(line, letters=LETTERS):
+    """The tokens of a line, a list, with these letters; raises WrongLine where none begins."""
     tokens = []
     at = 0
     while at < len(line):
         if line[at] == " ":
             at += 1
         else:
-            token = _token_at(line, at)
+            token = _token_at(line, at, letters)
             tokens.append(token)
             at += len(token)
     return tokens
 
 
-def _token_at(line, at):
+def _token_at(line, at, letters):
     end = at
-    while end < len(line) and line[end] in LETTERS:
+    while end < len(line) and line[end] in letters:
         end += 1
     if end > at:
         return line[at:end]
