@@ -384,6 +384,11 @@ class Judgements(unittest.TestCase):
         self.assertTrue(self.is_closed((*self.rows, *series("-7 ?b ?a 3", "0 0 0"))))
         self.assertTrue(self.is_closed((*self.rows, Series([0] + 59 * [A]))))
 
+    def test_numbers_of_400_digits(self):
+        many = 10 ** 399
+        self.assertTrue(self.is_closed((*self.rows, Series.of(many, many - 2, A), Series.of(-many, A, many))))
+        self.assertFalse(self.is_closed((*self.rows[:3], Series.of(many))))
+
     def test_each_row_is_needed(self):
         for at in range(8):
             self.assertFalse(self.is_closed(self.rows[:at] + self.rows[at + 1:]), at)

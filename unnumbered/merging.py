@@ -47,8 +47,8 @@ def _added(one, other):
 
 
 def _merged_parts(first, second, name):
-    parts = dict(first.parts[name])
+    together = dict(first.parts[name])
     if is_number(first.sums[name]):
-        for number, times in second.parts[name].items():
-            add_part(parts, number, times)
-    return parts
+        for number, times in list(second.parts[name].items()):
+            add_part(together, number, times)
+    return together
