@@ -50,6 +50,11 @@ CLASSES = {
     "running.py": {"Machine": "__init__ __call__ miss fed outcome probe".split(), "Outcome": ["__init__"]},
     "judging.py": {"Wish": [], "Verdict": "__init__ __bool__ __len__".split()},
     "pieces.py": {"Merge": "__init__ __len__ __str__".split()},
+    "mends.py": {"Mending": ["__init__"]},
+    "rules.py": {"Rule": "__init__ __str__ __eq__".split()},
+    "keyed.py": {
+        "Keyed": "__init__ __setitem__ __getitem__ __contains__ __len__ __iter__ worths total".split(),
+    },
 }
 FUNCTIONS = {
     "values.py": "is_number is_entry same least greatest holds agree".split(),
@@ -57,9 +62,13 @@ FUNCTIONS = {
     "judging.py": "wishes is_wished same_situation judge is_judgement".split(),
     "comparing.py": "compare is_comparison".split(),
     "pieces.py": "merged pieces is_cutting".split(),
+    "mends.py": "mends mended least_mends harmless".split(),
+    "rules.py": "is_safe parting book matches rewritten".split(),
+    "keyed.py": "grouped joined run_grouped".split(),
+    "sheets.py": "shown sheet series_sheet group_sheet".split(),
 }
 # The modules of the interface, in its order: each imports only those ahead of it, and helpers.
-MODULES = "errors values series programs running judging comparing pieces".split()
+MODULES = "errors values series programs running judging comparing pieces mends rules keyed sheets".split()
 
 
 def nodes(path):

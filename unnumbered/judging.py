@@ -57,10 +57,15 @@ def _is_broken(question, name, series):
 
 
 def _question_of(program, wanted):
+    check_wishes(program, wanted)
+    return Judgement(program, wanted)
+
+
+def check_wishes(program, wanted):
+    """Raises BadWish if wishes are none for a program."""
     for name in sorted([str(name) for name in wanted]):
         if name not in program.answers or not _is_wish(wanted[name]):
             raise BadWish(name)
-    return Judgement(program, wanted)
 
 
 def _is_wish(thing):

@@ -36,9 +36,14 @@ def next_entries(courses, has_unnumbered):
     for number in numbers:
         entries.extend([number, number + 1])
     if has_unnumbered:
-        names = _names([*held, *_all_sums(courses)])
-        entries.extend([Unnumbered(name) for name in [*list(names), _other_name(names)]])
+        entries.extend(next_unnumbered([*held, *_all_sums(courses)]))
     return entries
+
+
+def next_unnumbered(values):
+    """An unnumbered value with each name that is among values, and one with any other name."""
+    names = _names(values)
+    return [Unnumbered(name) for name in [*list(names), _other_name(names)]]
 
 
 def ordered(things):
